@@ -13,7 +13,7 @@ func call(r *rand.Rand, d *Doc) api.Errno {
 	places := []int{-1 << 63, -1, 0, 1, 2, d.lines.Len() - 1, d.lines.Len(), d.lines.Len() + 1, 61, 1<<63 - 1, r.Intn(60)}
 	texts := []string{"", "a", "\n", "a\n", forty, fortyOne, "\x00\xff", strings.Repeat("\n", 5000), strings.Repeat("z", 5000)}
 	at, line := places[r.Intn(len(places))], texts[r.Intn(len(texts))]
-	switch r.Intn(9) {
+	switch r.Intn(10) {
 	case 0, 1, 2:
 		return d.Insert(at, line)
 	case 3:
@@ -23,6 +23,8 @@ func call(r *rand.Rand, d *Doc) api.Errno {
 	case 5:
 		return d.Sync()
 	case 6:
+		return d.Save()
+	case 7:
 		_, e := d.Line(at)
 		return e
 	}
@@ -35,8 +37,8 @@ func TestP1NothingChangedWithAnError(t *testing.T) {
 		d := mustOpen(t, "a\nb\nc\n", 1+seed)
 		for range 3000 {
 			before := stateOf(d)
-			counted := d.counted
-			if e := call(r, d); e != api.OK && (stateOf(d) != before || d.counted != counted) {
+			counted, file := d.counted, d.file
+			if e := call(r, d); e != api.OK && (stateOf(d) != before || d.counted != counted || d.file != file) {
 				t.Fatalf("P1: with the error %d: %+v, before: %+v", e, stateOf(d), before)
 			}
 		}

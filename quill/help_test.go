@@ -32,7 +32,7 @@ func synced(t *testing.T, file string, every int) *Doc {
 	return d
 }
 
-// finish does all acts of a sync, and tells them.
+// finish does all acts of a job, and tells them.
 func finish(t *testing.T, d *Doc) []api.Act {
 	t.Helper()
 	var acts []api.Act

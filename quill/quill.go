@@ -10,7 +10,7 @@ import (
 // Doc is a document.
 type Doc struct {
 	lines   tree.Tree[string]
-	file    swap.Mark // of the file's bytes
+	file    swap.Mark // of the file's bytes, as the document knows them
 	every   int
 	edits   int // since the last sync that was done was begun
 	counted int // since the last sync was begun
@@ -39,9 +39,6 @@ func Open(file string, every int) (*Doc, api.Errno) {
 func Recover(swap []string, file string, every int) (*Doc, bool, api.Errno) {
 	return nil, false, api.OK
 }
-
-// Save replaces the file (P7). It is not built yet.
-func (d *Doc) Save() api.Errno { return api.OK }
 
 // Look tells how the document is (P8).
 func (d *Doc) Look() api.View {
