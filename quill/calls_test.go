@@ -35,6 +35,10 @@ func TestP1NothingChangedWithAnError(t *testing.T) {
 	for seed := range 20 {
 		r := rand.New(rand.NewSource(int64(seed)))
 		d := mustOpen(t, "a\nb\nc\n", 1+seed)
+		if seed%2 == 1 {
+			_, k := syncedOn(t, sixty, 5)
+			d, _ = mustRecover(t, k.now(), "a\n", 1+seed)
+		}
 		for range 3000 {
 			before := stateOf(d)
 			counted, file := d.counted, d.file
@@ -52,6 +56,8 @@ func TestP1NothingBesideAnError(t *testing.T) {
 	if d, e := Open("a", 0); d != nil || e != api.ErrArg {
 		t.Errorf("P1: Open: %v, %d", d, e)
 	}
+	wantRefused(t, "P1: Recover", nil, 5, api.ErrArg)
+	wantRefused(t, "P1: Recover", newDisk().now(), 5, api.ErrCorrupt)
 	d := synced(t, "a\n", 5)
 	if line, e := d.Line(1); line != "" || e != api.ErrArg {
 		t.Errorf("P1: Line: %q, %d", line, e)

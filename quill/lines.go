@@ -28,6 +28,12 @@ func cut(bytes string) ([]string, bool) {
 	return lines, true
 }
 
+// isText tells whether these are the bytes of a text.
+func isText(bytes string) bool {
+	_, ok := cut(bytes)
+	return ok
+}
+
 // put puts a line in at a place that there is. The document has its own copy: what a line was cut out of is not kept.
 func (d *Doc) put(at int, line string) {
 	d.lines.Insert(at, strings.Clone(line))

@@ -27,17 +27,18 @@ func Open(file string, every int) (*Doc, api.Errno) {
 	if !ok {
 		return nil, api.ErrText
 	}
-	d := &Doc{file: swap.MarkOf(file), every: every}
-	for _, line := range lines {
-		d.put(d.lines.Len(), line)
-	}
+	d := newDoc(lines, file, every)
 	d.beginSync()
 	return d, api.OK
 }
 
-// Recover reads a swap (P9). It is not built yet.
-func Recover(swap []string, file string, every int) (*Doc, bool, api.Errno) {
-	return nil, false, api.OK
+// newDoc makes a document of these lines, whose file's bytes are these.
+func newDoc(lines []string, file string, every int) *Doc {
+	d := &Doc{file: swap.MarkOf(file), every: every}
+	for _, line := range lines {
+		d.put(d.lines.Len(), line)
+	}
+	return d
 }
 
 // Look tells how the document is (P8).

@@ -64,36 +64,30 @@ func (d *disk) now() [api.Sectors]string {
 	return d.left(func(n int) int { return n - 1 })
 }
 
-func number(bytes string) uint64 {
-	var n uint64
-	for i := len(bytes) - 1; i >= 0; i-- {
-		n = n<<8 | uint64(bytes[i])
-	}
-	return n
+// find finds the text in a swap, whatever it is.
+func find(left [api.Sectors]string) (string, Mark, bool) {
+	found, ok := Find(left[:], func(string) bool { return true })
+	return found.Text, found.File, ok
 }
 
-// body reads the text of a half, if there is one. The sum of the text is looked at only where it is told to be: no crash may leave a head ahead of bytes that are not its own, so it isn't needed for what a crash leaves.
-func body(left [api.Sectors]string, half int, sum bool) (n uint64, text string, file Mark, ok bool) {
-	h := left[headAt(half)]
-	if h[:8] != headMark || number(h[60:]) != uint64(Sum(h[:60])) {
-		return
+// unsummed reads the text of a half without a look at its sum: no crash may leave a head ahead of bytes that are not its own, so the sum isn't needed for what a crash leaves.
+func unsummed(left [api.Sectors]string, half int) (head, string, bool) {
+	h, ok := readHead(left[headAt(half)])
+	text := strings.Join(left[bodyAt(half):bodyAt(half)+bodySize], "")
+	if !ok || h.text.Length > len(text) {
+		return head{}, "", false
 	}
-	text = strings.Join(left[bodyAt(half):bodyAt(half)+bodySize], "")
-	size := number(h[16:20])
-	if size > uint64(len(text)) || sum && uint64(Sum(text[:size])) != number(h[20:24]) {
-		return
-	}
-	return number(h[8:16]), text[:size], Mark{Length: int(number(h[24:32])), Sum: uint32(number(h[32:36]))}, true
+	return h, text[:h.text.Length], true
 }
 
-// read reads the later one of the texts that are left.
-func read(left [api.Sectors]string, sum bool) (string, Mark, bool) {
-	n0, text0, file0, ok0 := body(left, 0, sum)
-	n1, text1, file1, ok1 := body(left, 1, sum)
-	if ok1 && (!ok0 || int64(n1-n0) > 0) {
-		return text1, file1, true
+// findUnsummed finds the later one of the texts that are left, without a look at their sums.
+func findUnsummed(left [api.Sectors]string) (string, bool) {
+	h0, text0, ok0 := unsummed(left, 0)
+	h1, text1, ok1 := unsummed(left, 1)
+	if ok1 && (!ok0 || int64(h1.number-h0.number) > 0) {
+		return text1, true
 	}
-	return text0, file0, ok0
+	return text0, ok0
 }
 
 // lines makes a text of so many long lines, that no other tag has.
@@ -106,7 +100,7 @@ func lines(count, tag int) string {
 func TestWholeSync(t *testing.T) {
 	d := newDisk(noughts)
 	var w Writer
-	if _, _, ok := read(d.now(), true); ok || !w.Fresh() {
+	if _, _, ok := find(d.now()); ok || !w.Fresh() {
 		t.Fatal("a text in a swap of noughts")
 	}
 	for tag, count := range []int{0, 60, 1, 3, 0, 0, 60, 60, 25} {
@@ -122,7 +116,7 @@ func TestWholeSync(t *testing.T) {
 			d.do(a)
 		}
 		w.Written()
-		if got, mark, ok := read(d.now(), true); !ok || got != text || mark != file || w.Fresh() {
+		if got, mark, ok := find(d.now()); !ok || got != text || mark != file || w.Fresh() {
 			t.Fatalf("sync %d: %q, %+v, %v", tag, got, mark, ok)
 		}
 	}
@@ -154,7 +148,7 @@ func TestOldSwap(t *testing.T) {
 				d.do(a)
 			}
 			w.Written()
-			if text, file, ok := read(d.now(), true); !ok || text != "new\n" || file != MarkOf("file") {
+			if text, file, ok := find(d.now()); !ok || text != "new\n" || file != MarkOf("file") {
 				t.Fatalf("behind %d syncs of another: %q, %v", syncs, text, ok)
 			}
 		}
@@ -187,8 +181,11 @@ func syncOrFail(t *testing.T, r *rand.Rand, d *disk, w *Writer, text string, all
 	t.Helper()
 	acts := w.Acts(text, Mark{})
 	failing := r.Intn(2 * len(acts))
-	if r.Intn(3) == 0 {
+	switch r.Intn(3) {
+	case 0:
 		failing = r.Intn(5)
+	case 1:
+		failing = len(acts) - 1 - r.Intn(3)
 	}
 	for k, a := range acts {
 		if k != failing || r.Intn(2) == 0 {
@@ -204,7 +201,7 @@ func syncOrFail(t *testing.T, r *rand.Rand, d *disk, w *Writer, text string, all
 				}
 				return r.Intn(n)
 			})
-			if got, _, ok := read(left, false); !w.Fresh() && (!ok || !allowed[got]) {
+			if got, ok := findUnsummed(left); !w.Fresh() && (!ok || !allowed[got]) {
 				t.Fatalf("behind act %d of %d: %q, %v", k, len(acts), got, ok)
 			}
 		}
@@ -241,7 +238,7 @@ func TestOneSectorLost(t *testing.T) {
 				} else {
 					left[at] = d[at][0]
 				}
-				if got, _, ok := read(left, false); !ok || got != lines(60, 1) && got != lines(60, 2) {
+				if got, ok := findUnsummed(left); !ok || got != lines(60, 1) && got != lines(60, 2) {
 					t.Fatalf("sector %d: %q, %v", at, got, ok)
 				}
 			}
@@ -258,7 +255,7 @@ func TestWrapRound(t *testing.T) {
 			d.do(a)
 		}
 		w.Written()
-		if got, _, ok := read(d.now(), true); !ok || got != lines(2, tag) || w.Fresh() {
+		if got, _, ok := find(d.now()); !ok || got != lines(2, tag) || w.Fresh() {
 			t.Fatalf("number %d: %q, %v", w.number, got, ok)
 		}
 	}
